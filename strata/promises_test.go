@@ -55,13 +55,34 @@ func checkRuns(t *testing.T, data []byte, width, count int) {
 	}
 }
 
+// checkLook holds one answer of Look against what holds of all of them.
+func checkLook(t *testing.T, data []byte) {
+	t.Helper()
+	got, e := strata.Look(data)
+	if want := lookInWords(data); e != want {
+		t.Errorf("P6: Look(%x): error %d, want %d", data, e, want)
+	}
+	if e != api.OK {
+		if len(got.Columns) != 0 || len(got.Rows) != 0 {
+			t.Errorf("P1: Look(%x): %v beside error %d", data, got, e)
+		}
+		return
+	}
+	if n := len(got.Columns); n < 1 || n > api.MaxColumns || len(got.Rows) > api.MaxGroups {
+		t.Errorf("P6: Look(%x): %d columns, %d groups", data, n, len(got.Rows))
+	}
+}
+
 // edges are numbers at and beyond the bounds of every argument.
 var edges = []int{-1 << 31, -9, -1, 0, 1, 2, 7, 8, 9, 24, 25, 64, 99999, 100000, 100001, 1 << 20, 1<<20 + 1, 1<<31 - 1}
 
 func TestP1AllShortBytes(t *testing.T) {
 	checkUnpack(t, nil, 9)
 	checkRuns(t, nil, 3, 9)
+	checkLook(t, nil)
 	for a := range 256 {
+		checkLook(t, []byte{byte(a)})
+		checkLook(t, framed("", []byte{byte(a)}))
 		checkUnpack(t, []byte{byte(a)}, 9)
 		checkRuns(t, []byte{byte(a)}, a%25, 9)
 		for b := range 256 {
@@ -70,6 +91,10 @@ func TestP1AllShortBytes(t *testing.T) {
 			checkUnpack(t, append([]byte{9, 0, 'x'}, two...), 9)
 			checkRuns(t, two, b%25, 9)
 			checkRuns(t, append(two, 0, 0, 0, 1, 2), a%25, 20)
+			checkLook(t, two)
+			checkLook(t, framed("", two))
+			checkLook(t, framed("", append([]byte{1, 1, 'a'}, two...)))
+			checkLook(t, framed("", append([]byte{1, 1, 'a', 1, 1, 1}, two...)))
 		}
 	}
 }
@@ -95,6 +120,11 @@ func TestP1ChangedBytes(t *testing.T) {
 		data, numbers := anyRuns(r, width)
 		data[r.Intn(len(data))] = byte(r.Intn(256))
 		checkRuns(t, data, width, r.Intn(2*len(numbers)))
+		data, _ = anyFile(r)
+		data[r.Intn(len(data))] = byte(r.Intn(256))
+		checkLook(t, data)
+		checkLook(t, data[r.Intn(len(data)):])
+		checkLook(t, data[:r.Intn(len(data))])
 	}
 }
 
@@ -113,6 +143,15 @@ func FuzzRuns(f *testing.F) {
 	f.Fuzz(func(t *testing.T, data []byte, width, count int) {
 		checkRuns(t, data, width, count)
 		checkRuns(t, data, width&15, count&1023)
+	})
+}
+
+func FuzzLook(f *testing.F) {
+	f.Add("", example())
+	f.Add("pages", footerBytes(columnsOf(3), groupsOf(2, 1000, 3)...))
+	f.Fuzz(func(t *testing.T, pages string, data []byte) {
+		checkLook(t, data)
+		checkLook(t, framed(pages, data))
 	})
 }
 
@@ -154,6 +193,17 @@ func TestP2NothingIsWrittenInto(t *testing.T) {
 			t.Fatalf("P2: Runs(%x): error %d, or what was handed in is changed", data, e)
 		}
 		wantRuns(t, piece, width, numbers, len(data))
+
+		data, shape := anyFile(r)
+		whole, piece = within(data)
+		before = bytes.Clone(whole)
+		looked, e := strata.Look(piece)
+		clear(looked.Columns[:cap(looked.Columns)])
+		clear(looked.Rows[:cap(looked.Rows)])
+		if e != api.OK || !bytes.Equal(whole, before) {
+			t.Fatalf("P2: Look(%x): error %d, or what was handed in is changed", data, e)
+		}
+		wantLook(t, piece, shape)
 	}
 }
 
@@ -178,6 +228,18 @@ func TestP2NothingIsKept(t *testing.T) {
 	if !slices.Equal(other, want) {
 		t.Errorf("P2: what came out of another call has become %v", other)
 	}
+	data = example()
+	shape, _ := strata.Look(data)
+	another, _ := strata.Look(data)
+	clear(data)
+	if len(shape.Columns) != 1 || shape.Columns[0].Name != "a" {
+		t.Errorf("P2: the columns that came out have become %v", shape.Columns)
+	}
+	clear(shape.Columns[:cap(shape.Columns)])
+	clear(shape.Rows[:cap(shape.Rows)])
+	if len(another.Columns) != 1 || another.Columns[0].Name != "a" || !slices.Equal(another.Rows, []int{2}) {
+		t.Errorf("P2: what came out of another call has become %v", another)
+	}
 }
 
 func TestP2WhatStandsBehindDoesNotCount(t *testing.T) {
@@ -187,6 +249,9 @@ func TestP2WhatStandsBehindDoesNotCount(t *testing.T) {
 	wantNotUnpacked(t, whole[:0], 9, api.ErrVarint)
 	wantNoRuns(t, []byte("\x10\x01")[:1], 1, 8, api.ErrRuns)
 	wantNoRuns(t, []byte("\x03\x88\xc6\xfa")[:3], 3, 8, api.ErrRuns)
+	for n := range example() {
+		wantNoLook(t, example()[:n], api.ErrFile)
+	}
 	if got := strata.Sum([]byte("123456789x")[:9]); got != 0xcbf43926 {
 		t.Errorf("P2: Sum = %08x", got)
 	}
@@ -208,6 +273,8 @@ func TestP2ArgumentsAlone(t *testing.T) {
 				width := r.Intn(api.MaxWidth + 1)
 				data, numbers := anyRuns(r, width)
 				wantRuns(t, data, width, numbers, len(data))
+				data, shape := anyFile(r)
+				wantLook(t, data, shape)
 			}
 		}()
 	}

@@ -3,13 +3,14 @@ package strata
 
 import (
 	"strata/api"
+	"strata/footer"
 	"strata/pack"
 	"strata/runs"
 	"strata/sum"
 )
 
 // Sum is a sum over bytes (P3).
-func Sum(data []byte) uint32 { return sum.Of(data) }
+func Sum(data []byte) uint32 { return sum.Checked(data) }
 
 // Unpack unpacks bytes (P4).
 func Unpack(data []byte, most int) ([]byte, api.Errno) { return pack.Unpack(data, most) }
@@ -20,7 +21,7 @@ func Runs(data []byte, width, count int) ([]int, int, api.Errno) {
 }
 
 // Look reads a file's footer (P6).
-func Look(data []byte) (api.Shape, api.Errno) { return api.Shape{}, api.OK }
+func Look(data []byte) (api.Shape, api.Errno) { return footer.Read(data) }
 
 // Read reads a file (P7).
 func Read(data []byte, budget int) (api.Table, int, api.Errno) { return api.Table{}, 0, api.OK }
