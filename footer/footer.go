@@ -18,20 +18,58 @@ const tail = 4 + 4 + len(mark)
 // optional is the bit beside a column's kind.
 const optional = 4
 
-// Read tells the shape of the file that data is.
-func Read(data []byte) (api.Shape, api.Errno) {
+// Footer: the columns and groups that it tells, and where it begins in the
+// file, which is where every page must have ended.
+type Footer struct {
+	Columns []api.Column
+	Groups  []Group
+	Begins  int
+}
+
+// Group: how many rows it has, and where each column's pages are.
+type Group struct {
+	Rows   int
+	Places []Place
+}
+
+// Place: where the first page begins in the file, and how many pages there are.
+type Place struct {
+	First int
+	Pages int
+}
+
+// Look tells the shape of the file that data is.
+func Look(data []byte) (api.Shape, api.Errno) {
+	f, e := Read(data)
+	if e != api.OK {
+		return api.Shape{}, e
+	}
+	shape := api.Shape{Columns: f.Columns}
+	for _, g := range f.Groups {
+		shape.Rows = append(shape.Rows, g.Rows)
+	}
+	return shape, api.OK
+}
+
+// Read tells the footer of the file that data is.
+func Read(data []byte) (Footer, api.Errno) {
 	f, ok := find(data)
 	if !ok {
-		return api.Shape{}, api.ErrFile
+		return Footer{}, api.ErrFile
 	}
 	if sum.Of(f.piece) != f.sum {
-		return api.Shape{}, api.ErrSum
+		return Footer{}, api.ErrSum
 	}
-	r := reader{in: input.New(f.piece), begins: f.begins}
+	r := reader{in: input.New(f.piece), told: Footer{Begins: f.begins}}
 	if !r.whole() {
-		return api.Shape{}, api.ErrFooter
+		return Footer{}, api.ErrFooter
 	}
-	return r.shape, api.OK
+	return r.told, api.OK
+}
+
+// Pages are the bytes of the file from a place on, up to the footer.
+func (f Footer) Pages(data []byte, p Place) []byte {
+	return pieceOf(data, p.First, f.Begins)
 }
 
 // found: the footer's bytes, where they begin in the file, and what the file
@@ -64,12 +102,10 @@ func pieceOf(data []byte, from, to int) []byte {
 	return data[from:to:to]
 }
 
-// reader: the footer's bytes that are left, where the footer begins in the
-// file, and what it has told so far.
+// reader: the footer's bytes that are left, and what it has told so far.
 type reader struct {
-	in     input.Reader
-	begins int
-	shape  api.Shape
+	in   input.Reader
+	told Footer
 }
 
 // whole reads all of the footer; false, if it may not be, or something stands
@@ -116,7 +152,7 @@ func (r *reader) column() bool {
 	if c.Kind > api.Text {
 		return false
 	}
-	r.shape.Columns = append(r.shape.Columns, c)
+	r.told.Columns = append(r.told.Columns, c)
 	return true
 }
 
@@ -132,7 +168,7 @@ func (r *reader) name() (string, bool) {
 
 // has tells whether a column of that name has been read.
 func (r *reader) has(name string) bool {
-	for _, c := range r.shape.Columns {
+	for _, c := range r.told.Columns {
 		if c.Name == name {
 			return true
 		}
@@ -160,20 +196,24 @@ func (r *reader) group() bool {
 	if !ok {
 		return false
 	}
-	for range r.shape.Columns {
-		if !r.pages() {
+	g := Group{Rows: rows}
+	for range r.told.Columns {
+		p, ok := r.place()
+		if !ok {
 			return false
 		}
+		g.Places = append(g.Places, p)
 	}
-	r.shape.Rows = append(r.shape.Rows, rows)
+	r.told.Groups = append(r.told.Groups, g)
 	return true
 }
 
-// pages reads where the first page of a column begins, and how many it has.
-func (r *reader) pages() bool {
-	if _, ok := r.number(len(mark), r.begins); !ok {
-		return false
+// place reads where the first page of a column begins, and how many it has.
+func (r *reader) place() (Place, bool) {
+	first, ok := r.number(len(mark), r.told.Begins)
+	if !ok {
+		return Place{}, false
 	}
-	_, ok := r.number(1, api.MaxPages)
-	return ok
+	pages, ok := r.number(1, api.MaxPages)
+	return Place{First: first, Pages: pages}, ok
 }

@@ -24,6 +24,11 @@ func TestNoRoomBehindThePiece(t *testing.T) {
 			_ = append(piece, 'X')
 		}
 	}
+	pages := Footer{Begins: f.begins}.Pages(data[:len(file)], Place{First: 6})
+	if string(pages) != "ges" || cap(pages) != len(pages) {
+		t.Errorf("the pages are %q, with room for %d bytes behind them", pages, cap(pages)-len(pages))
+	}
+	_ = append(pages, "written"...)
 	if string(data) != file+"behind" {
 		t.Errorf("an append to a piece has written into the file: %q", data)
 	}

@@ -2,6 +2,7 @@ package strata_test
 
 import (
 	"bytes"
+	"math"
 	"math/rand"
 	"slices"
 	"sync"
@@ -73,6 +74,19 @@ func checkLook(t *testing.T, data []byte) {
 	}
 }
 
+// checkRead holds one answer of Read against what the document's words say.
+func checkRead(t *testing.T, data []byte, budget int) {
+	t.Helper()
+	got, used, e := strata.Read(data, budget)
+	want, cost, wrong := readInWords(data, budget)
+	if !sameTable(got, want) || used != cost || e != wrong {
+		t.Errorf("P7: Read(%x, %d) = %v, %d, %d, want %v, %d, %d", data, budget, got, used, e, want, cost, wrong)
+	}
+	if e != api.OK && (got.Columns != nil || got.Cells != nil) {
+		t.Errorf("P1: Read(%x, %d): %v beside error %d", data, budget, got, e)
+	}
+}
+
 // edges are numbers at and beyond the bounds of every argument.
 var edges = []int{-1 << 31, -9, -1, 0, 1, 2, 7, 8, 9, 24, 25, 64, 99999, 100000, 100001, 1 << 20, 1<<20 + 1, 1<<31 - 1}
 
@@ -80,6 +94,7 @@ func TestP1AllShortBytes(t *testing.T) {
 	checkUnpack(t, nil, 9)
 	checkRuns(t, nil, 3, 9)
 	checkLook(t, nil)
+	checkRead(t, nil, 9)
 	for a := range 256 {
 		checkLook(t, []byte{byte(a)})
 		checkLook(t, framed("", []byte{byte(a)}))
@@ -95,6 +110,13 @@ func TestP1AllShortBytes(t *testing.T) {
 			checkLook(t, framed("", two))
 			checkLook(t, framed("", append([]byte{1, 1, 'a'}, two...)))
 			checkLook(t, framed("", append([]byte{1, 1, 'a', 1, 1, 1}, two...)))
+			checkRead(t, framed("", append([]byte{1, 1, 'a', 1, 1, 1}, two...)), a)
+			checkRead(t, only(nullable(textColumn), 2, append(two, 0, 0, 0, 0, 0, 0, 0)), b)
+			for _, c := range []api.Column{boolColumn, textColumn, nullable(boolColumn), nullable(textColumn)} {
+				checkRead(t, only(c, 2, pageOf(plain, 2, two)), 30)
+			}
+			checkRead(t, only(textColumn, 2, pageOf(dictionary, 1, []byte("\x01w")), pageOf(indices, 2, two)), 100)
+			checkRead(t, only(textColumn, 2, headed(plain, 1, 2, 2, 2, two)), 100)
 		}
 	}
 }
@@ -106,6 +128,11 @@ func TestP1AllArguments(t *testing.T) {
 			for _, b := range edges {
 				checkRuns(t, []byte(data), a, b)
 			}
+		}
+	}
+	for _, data := range [][]byte{nil, example(), example()[:40], framed("", footerBytes(columnsOf(2)))} {
+		for _, budget := range append(edges, 31, 32, 33, 1<<30-1, 1<<30, 1<<30+1, math.MaxInt, math.MinInt) {
+			checkRead(t, data, budget)
 		}
 	}
 }
@@ -125,6 +152,23 @@ func TestP1ChangedBytes(t *testing.T) {
 		checkLook(t, data)
 		checkLook(t, data[r.Intn(len(data)):])
 		checkLook(t, data[:r.Intn(len(data))])
+		checkRead(t, data, r.Intn(1000))
+	}
+}
+
+// A byte of a page or of the footer is changed, and no sum is written anew.
+func TestP1ChangedByteOfAFile(t *testing.T) {
+	m := maker{Rand: rand.New(rand.NewSource(11))}
+	for range 1000 {
+		data, _ := m.file()
+		for range 5 {
+			changed := bytes.Clone(data)
+			changed[m.Intn(len(data))] ^= byte(1 + m.Intn(255))
+			checkRead(t, changed, m.used)
+			checkRead(t, changed, m.Intn(m.used+1))
+			sumsAgain(changed)
+			checkRead(t, changed, m.used)
+		}
 	}
 }
 
@@ -152,6 +196,23 @@ func FuzzLook(f *testing.F) {
 	f.Fuzz(func(t *testing.T, pages string, data []byte) {
 		checkLook(t, data)
 		checkLook(t, framed(pages, data))
+	})
+}
+
+func FuzzRead(f *testing.F) {
+	f.Add(example()[4:29], byte(1), 2, 32)
+	f.Add(packedPage(plain, 2, []byte("\x02\x04\x01\x01a\x01b")), byte(6), 2, 100)
+	f.Add(append(pageOf(dictionary, 1, []byte("\x01w")), pageOf(indices, 9, []byte("\x00\x12"))...), byte(2), 9, 1000)
+	f.Fuzz(func(t *testing.T, pages []byte, kind byte, rows, budget int) {
+		checkRead(t, pages, budget)
+		c := api.Column{Name: "a", Kind: api.Kind(kind % 3), Optional: kind&4 != 0}
+		right := bytes.Clone(pages)
+		pageSumsAgain(right)
+		for count := 1; count <= 3; count++ {
+			footer := footerBytes([]api.Column{c}, group{1 + rows&1023%1000, []place{{4, count}}})
+			checkRead(t, framed(string(pages), footer), budget&(1<<20-1))
+			checkRead(t, framed(string(right), footer), budget&(1<<20-1))
+		}
 	})
 }
 
@@ -207,6 +268,66 @@ func TestP2NothingIsWrittenInto(t *testing.T) {
 	}
 }
 
+// filled is a list of cells whose room, all of it, has been written into.
+func filled(list []api.Cell) {
+	list = list[:cap(list)]
+	for i := range list {
+		list[i] = api.Cell{Null: true, N: -1, S: "written"}
+	}
+}
+
+func TestP2WhatReadTells(t *testing.T) {
+	m := maker{Rand: rand.New(rand.NewSource(22))}
+	for range 500 {
+		data, want := m.file()
+		whole, piece := within(data)
+		before := bytes.Clone(whole)
+		got, _, e := strata.Read(piece, m.used)
+		another, _, _ := strata.Read(piece, m.used)
+		if e != api.OK || !bytes.Equal(whole, before) {
+			t.Fatalf("P2: Read(%x): error %d, or what was handed in is changed", data, e)
+		}
+		clear(whole)
+		if !sameTable(got, want) {
+			t.Fatalf("P2: what was handed in was kept: %v", got)
+		}
+		// A list that is written into changes no other one.
+		for i := range got.Cells {
+			filled(got.Cells[i])
+			for j := i + 1; j < len(got.Cells); j++ {
+				if !slices.Equal(got.Cells[j], want.Cells[j]) {
+					t.Fatalf("P2: the lists %d and %d share memory", i, j)
+				}
+			}
+		}
+		clear(got.Columns[:cap(got.Columns)])
+		clear(got.Cells[:cap(got.Cells)])
+		if !sameTable(another, want) {
+			t.Fatalf("P2: what came out of another call has become %v", another)
+		}
+	}
+}
+
+// Two columns, and two groups, speak of one page.
+func TestP2OnePageOfTwoColumns(t *testing.T) {
+	book := pageOf(dictionary, 2, valueBytes(api.Int, numbers(7, 8)))
+	index := pageOf(indices, 2, append([]byte{1}, leastRuns(1, []int{0, 1})...))
+	for _, places := range [][]place{{{4, 2}, {4, 2}}, {{4 + len(book) + len(index), 1}, {4 + len(book) + len(index), 1}}} {
+		pages := slices.Concat(book, index, pageOf(plain, 2, valueBytes(api.Int, numbers(7, 8))))
+		for groups := 1; groups <= 3; groups++ {
+			data := framed(string(pages), footerBytes(columnsOf(2), slices.Repeat([]group{{2, places}}, groups)...))
+			got, _, e := strata.Read(data, 1000)
+			if e != api.OK {
+				t.Fatalf("P7: error %d", e)
+			}
+			filled(got.Cells[0])
+			if !slices.Equal(got.Cells[1], slices.Repeat(numbers(7, 8), groups)) {
+				t.Errorf("P2: the columns share memory: %v", got.Cells)
+			}
+		}
+	}
+}
+
 func TestP2NothingIsKept(t *testing.T) {
 	data := []byte("\x05\x10abcde")
 	out, _ := strata.Unpack(data, 9)
@@ -251,6 +372,7 @@ func TestP2WhatStandsBehindDoesNotCount(t *testing.T) {
 	wantNoRuns(t, []byte("\x03\x88\xc6\xfa")[:3], 3, 8, api.ErrRuns)
 	for n := range example() {
 		wantNoLook(t, example()[:n], api.ErrFile)
+		wantNoRead(t, example()[:n], 1000, api.ErrFile)
 	}
 	if got := strata.Sum([]byte("123456789x")[:9]); got != 0xcbf43926 {
 		t.Errorf("P2: Sum = %08x", got)
@@ -275,6 +397,9 @@ func TestP2ArgumentsAlone(t *testing.T) {
 				wantRuns(t, data, width, numbers, len(data))
 				data, shape := anyFile(r)
 				wantLook(t, data, shape)
+				m := maker{Rand: r}
+				data, table := m.file()
+				wantRead(t, data, table, m.used)
 			}
 		}()
 	}

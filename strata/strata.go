@@ -7,6 +7,7 @@ import (
 	"strata/pack"
 	"strata/runs"
 	"strata/sum"
+	"strata/table"
 )
 
 // Sum is a sum over bytes (P3).
@@ -21,10 +22,10 @@ func Runs(data []byte, width, count int) ([]int, int, api.Errno) {
 }
 
 // Look reads a file's footer (P6).
-func Look(data []byte) (api.Shape, api.Errno) { return footer.Read(data) }
+func Look(data []byte) (api.Shape, api.Errno) { return footer.Look(data) }
 
 // Read reads a file (P7).
-func Read(data []byte, budget int) (api.Table, int, api.Errno) { return api.Table{}, 0, api.OK }
+func Read(data []byte, budget int) (api.Table, int, api.Errno) { return table.Read(data, budget) }
 
 // Write writes a file (P8).
 func Write(t api.Table, rows int) ([]byte, api.Errno) { return nil, api.OK }
