@@ -1,4 +1,4 @@
-// Package cells reads the cells of a page out of its bytes.
+// Package cells reads the cells of a page out of its bytes, and writes them.
 package cells
 
 import (

@@ -1,4 +1,5 @@
-// Package footer reads a file's footer, which tells its columns and its groups.
+// Package footer reads and writes a file's footer, which tells its columns and
+// its groups.
 package footer
 
 import (

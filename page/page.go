@@ -1,5 +1,5 @@
-// Package page reads the pages of a file, as far as they are alike for all
-// columns: their heads and their bytes.
+// Package page reads and writes the pages of a file, as far as they are alike
+// for all columns: their heads and their bytes.
 package page
 
 import (

@@ -1,4 +1,4 @@
-// Package runs reads numbers that are written in runs.
+// Package runs reads and writes numbers in runs.
 package runs
 
 import (

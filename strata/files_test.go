@@ -212,11 +212,13 @@ func anyPacking(r *rand.Rand, data []byte) []byte {
 }
 
 // maker makes files by chance. What it spoils is right but for a byte or a
-// number; with spoil 0 it spoils nothing.
+// number; with spoil 0 it spoils nothing. With inOrder, the cells of each column
+// are in order in each group.
 type maker struct {
 	*rand.Rand
-	spoil int
-	used  int
+	spoil   int
+	inOrder bool
+	used    int
 }
 
 // hits tells, now and then, that something is to be spoilt.
@@ -334,6 +336,9 @@ func (m *maker) part(c api.Column, rows int) ([][]byte, []api.Cell) {
 			next = words[m.Intn(len(words))]
 		}
 		cells = append(cells, next)
+	}
+	if m.inOrder {
+		slices.SortFunc(cells, func(a, b api.Cell) int { return compareInWords(c.Kind, a, b) })
 	}
 	for done := 0; done < len(cells) || m.Intn(4) == 0 || len(pages) == 0; {
 		size := m.Intn(len(cells) - done + 1)

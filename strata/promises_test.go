@@ -87,6 +87,39 @@ func checkRead(t *testing.T, data []byte, budget int) {
 	}
 }
 
+// checkWrite holds one answer of Write against what the document's words say.
+func checkWrite(t *testing.T, table api.Table, rows int) {
+	t.Helper()
+	got, e := strata.Write(table, rows)
+	want, used, wrong := writeInWords(table, rows)
+	if !bytes.Equal(got, want) || e != wrong {
+		t.Errorf("P8: Write(%v, %d) = %x, %d, want %x, %d", table, rows, got, e, want, wrong)
+	}
+	if e != api.OK {
+		if got != nil {
+			t.Errorf("P1: Write(%v, %d): %x beside error %d", table, rows, got, e)
+		}
+		return
+	}
+	back, n, e := strata.Read(got, used)
+	if !sameTable(back, table) || n != used || e != api.OK {
+		t.Errorf("P10: Write(%v, %d) is read as %v, %d, %d, want %d", table, rows, back, n, e, used)
+	}
+}
+
+// checkOrder holds one answer of Order against what the document's words say.
+func checkOrder(t *testing.T, data []byte, column, budget int) {
+	t.Helper()
+	got, e := strata.Order(data, column, budget)
+	want, wrong := orderInWords(data, column, budget)
+	if !slices.Equal(got, want) || e != wrong {
+		t.Errorf("P9: Order(%x, %d, %d) = %v, %d, want %v, %d", data, column, budget, got, e, want, wrong)
+	}
+	if e != api.OK && got != nil {
+		t.Errorf("P1: Order(%x, %d, %d): %v beside error %d", data, column, budget, got, e)
+	}
+}
+
 // edges are numbers at and beyond the bounds of every argument.
 var edges = []int{-1 << 31, -9, -1, 0, 1, 2, 7, 8, 9, 24, 25, 64, 99999, 100000, 100001, 1 << 20, 1<<20 + 1, 1<<31 - 1}
 
@@ -95,6 +128,7 @@ func TestP1AllShortBytes(t *testing.T) {
 	checkRuns(t, nil, 3, 9)
 	checkLook(t, nil)
 	checkRead(t, nil, 9)
+	checkOrder(t, nil, 0, 9)
 	for a := range 256 {
 		checkLook(t, []byte{byte(a)})
 		checkLook(t, framed("", []byte{byte(a)}))
@@ -114,6 +148,7 @@ func TestP1AllShortBytes(t *testing.T) {
 			checkRead(t, only(nullable(textColumn), 2, append(two, 0, 0, 0, 0, 0, 0, 0)), b)
 			for _, c := range []api.Column{boolColumn, textColumn, nullable(boolColumn), nullable(textColumn)} {
 				checkRead(t, only(c, 2, pageOf(plain, 2, two)), 30)
+				checkOrder(t, only(c, 2, pageOf(plain, 2, two)), 0, 30)
 			}
 			checkRead(t, only(textColumn, 2, pageOf(dictionary, 1, []byte("\x01w")), pageOf(indices, 2, two)), 100)
 			checkRead(t, only(textColumn, 2, headed(plain, 1, 2, 2, 2, two)), 100)
@@ -133,6 +168,20 @@ func TestP1AllArguments(t *testing.T) {
 	for _, data := range [][]byte{nil, example(), example()[:40], framed("", footerBytes(columnsOf(2)))} {
 		for _, budget := range append(edges, 31, 32, 33, 1<<30-1, 1<<30, 1<<30+1, math.MaxInt, math.MinInt) {
 			checkRead(t, data, budget)
+			for _, column := range append(edges, math.MaxInt, math.MinInt) {
+				checkOrder(t, data, column, budget)
+			}
+		}
+	}
+	cells := slices.Repeat(numbers(1), 60)
+	for _, table := range []api.Table{
+		{}, {Columns: []api.Column{}, Cells: [][]api.Cell{}}, {Columns: columnsOf(1)}, {Cells: [][]api.Cell{cells}}, {Cells: make([][]api.Cell, 1<<16)},
+		{Columns: make([]api.Column, 1<<16)}, {Columns: make([]api.Column, 1<<16), Cells: make([][]api.Cell, 1<<16)},
+		tableOf(intColumn), tableOf(intColumn, cells...), tableOf(nullable(textColumn), cells...), tableOf(boolColumn, cells...), tableOf(api.Column{}, cells...),
+		{Columns: columnsOf(2), Cells: [][]api.Cell{nil, cells}}, {Columns: columnsOf(2), Cells: [][]api.Cell{cells, nil}}, {Columns: columnsOf(2), Cells: [][]api.Cell{cells}},
+	} {
+		for _, rows := range append(edges, 999, 1000, 1001, math.MaxInt, math.MinInt) {
+			checkWrite(t, table, rows)
 		}
 	}
 }
@@ -166,8 +215,10 @@ func TestP1ChangedByteOfAFile(t *testing.T) {
 			changed[m.Intn(len(data))] ^= byte(1 + m.Intn(255))
 			checkRead(t, changed, m.used)
 			checkRead(t, changed, m.Intn(m.used+1))
+			checkOrder(t, changed, m.Intn(5)-1, m.used)
 			sumsAgain(changed)
 			checkRead(t, changed, m.used)
+			checkOrder(t, changed, m.Intn(5)-1, m.used)
 		}
 	}
 }
@@ -212,6 +263,43 @@ func FuzzRead(f *testing.F) {
 			footer := footerBytes([]api.Column{c}, group{1 + rows&1023%1000, []place{{4, count}}})
 			checkRead(t, framed(string(pages), footer), budget&(1<<20-1))
 			checkRead(t, framed(string(right), footer), budget&(1<<20-1))
+		}
+	})
+}
+
+func FuzzWrite(f *testing.F) {
+	f.Add(int64(1), 10, "a", 1, 2, "", false, false)
+	f.Add(int64(2), 1000, "name", 2, 0, "text", false, true)
+	f.Add(int64(3), 7, "", 0, 0, "", true, true)
+	f.Fuzz(func(t *testing.T, seed int64, rows int, name string, kind, n int, text string, null, optional bool) {
+		r := rand.New(rand.NewSource(seed))
+		table := anyTable(r)
+		checkWrite(t, table, rows)
+		checkWrite(t, table, rows&127)
+		at := r.Intn(len(table.Columns))
+		table.Columns[at] = api.Column{Name: name, Kind: api.Kind(kind), Optional: optional}
+		checkWrite(t, table, 1+rows&127)
+		clear(table.Cells[at])
+		if len(table.Cells[at]) > 0 {
+			table.Cells[at][r.Intn(len(table.Cells[at]))] = api.Cell{Null: null, N: n, S: text}
+		}
+		checkWrite(t, table, 1+rows&127)
+	})
+}
+
+func FuzzOrder(f *testing.F) {
+	f.Add(example()[4:29], byte(1), 2, 0, 32)
+	f.Add(pageOf(plain, 2, []byte("\x01b\x01a")), byte(2), 2, 0, 100)
+	f.Fuzz(func(t *testing.T, pages []byte, kind byte, rows, column, budget int) {
+		checkOrder(t, pages, column, budget)
+		c := api.Column{Name: "a", Kind: api.Kind(kind % 3), Optional: kind&4 != 0}
+		right := bytes.Clone(pages)
+		pageSumsAgain(right)
+		for count := 1; count <= 3; count++ {
+			g := group{1 + rows&1023%1000, []place{{4, count}}}
+			data := framed(string(right), footerBytes([]api.Column{c}, g, g))
+			checkOrder(t, data, column, budget&(1<<20-1))
+			checkOrder(t, data, 0, budget&(1<<20-1))
 		}
 	})
 }
@@ -308,6 +396,74 @@ func TestP2WhatReadTells(t *testing.T) {
 	}
 }
 
+// roomy is the same table, and whole one whose lists go on behind those of it,
+// in the same memory.
+func roomy(t api.Table) (whole, same api.Table) {
+	behind := api.Cell{Null: true, N: 5, S: "behind"}
+	whole = cloned(t)
+	for i, list := range whole.Cells {
+		whole.Cells[i] = append(list, slices.Repeat([]api.Cell{behind}, 50)...)
+		same.Cells = append(same.Cells, whole.Cells[i][:len(list)])
+	}
+	whole.Columns = append(whole.Columns, slices.Repeat([]api.Column{{Name: "behind"}}, 50)...)
+	same.Columns = whole.Columns[:len(t.Columns)]
+	lists := append(same.Cells, slices.Repeat([][]api.Cell{{behind}}, 50)...)
+	same.Cells = lists[:len(t.Cells)]
+	whole.Cells = append(whole.Cells, lists[len(t.Cells):]...)
+	return whole, same
+}
+
+func TestP2WhatWriteIsGiven(t *testing.T) {
+	r := rand.New(rand.NewSource(222))
+	for range 1000 {
+		table := anyTable(r)
+		rows := 4 + r.Intn(60)
+		whole, same := roomy(table)
+		before := cloned(whole)
+		got, e := strata.Write(same, rows)
+		another, _ := strata.Write(same, rows)
+		behind := same.Cells[:cap(same.Cells)][len(same.Cells)]
+		if e != api.OK || !sameTable(whole, before) || !sameTable(same, table) || behind[0].S != "behind" {
+			t.Fatalf("P2: Write(%v, %d): error %d, or what was handed in is changed", table, rows, e)
+		}
+		for _, list := range whole.Cells {
+			filled(list)
+		}
+		clear(whole.Columns)
+		want, _, _ := writeInWords(table, rows)
+		if !bytes.Equal(got, want) {
+			t.Fatalf("P2: what was handed in was kept: %x, want %x", got, want)
+		}
+		clear(got[:cap(got)])
+		if !bytes.Equal(another, want) {
+			t.Fatalf("P2: what came out of another call has become %x", another)
+		}
+	}
+}
+
+func TestP2WhatOrderTells(t *testing.T) {
+	m := maker{Rand: rand.New(rand.NewSource(2222)), inOrder: true}
+	for range 500 {
+		data, _ := m.file()
+		whole, piece := within(data)
+		before := bytes.Clone(whole)
+		got, e := strata.Order(piece, 0, m.used)
+		another, _ := strata.Order(piece, 0, m.used)
+		if e != api.OK || !bytes.Equal(whole, before) {
+			t.Fatalf("P2: Order(%x): error %d, or what was handed in is changed", data, e)
+		}
+		clear(whole)
+		want, _ := orderInWords(data, 0, m.used)
+		if !slices.Equal(got, want) {
+			t.Fatalf("P2: what was handed in was kept: %v", got)
+		}
+		clear(got[:cap(got)])
+		if !slices.Equal(another, want) {
+			t.Fatalf("P2: what came out of another call has become %v", another)
+		}
+	}
+}
+
 // Two columns, and two groups, speak of one page.
 func TestP2OnePageOfTwoColumns(t *testing.T) {
 	book := pageOf(dictionary, 2, valueBytes(api.Int, numbers(7, 8)))
@@ -373,6 +529,11 @@ func TestP2WhatStandsBehindDoesNotCount(t *testing.T) {
 	for n := range example() {
 		wantNoLook(t, example()[:n], api.ErrFile)
 		wantNoRead(t, example()[:n], 1000, api.ErrFile)
+		wantNoOrder(t, example()[:n], 0, 1000, api.ErrFile)
+	}
+	for n := range 3 {
+		cells := numbers(1, 2, 3)
+		wantBack(t, tableOf(intColumn, cells[:n]...), 10)
 	}
 	if got := strata.Sum([]byte("123456789x")[:9]); got != 0xcbf43926 {
 		t.Errorf("P2: Sum = %08x", got)
@@ -400,6 +561,9 @@ func TestP2ArgumentsAlone(t *testing.T) {
 				m := maker{Rand: r}
 				data, table := m.file()
 				wantRead(t, data, table, m.used)
+				checkOrder(t, data, 0, m.used)
+				checkWrite(t, table, 60)
+				checkWrite(t, anyTable(r), 60)
 			}
 		}()
 	}

@@ -4,6 +4,7 @@ package strata
 import (
 	"strata/api"
 	"strata/footer"
+	"strata/order"
 	"strata/pack"
 	"strata/runs"
 	"strata/sum"
@@ -28,7 +29,9 @@ func Look(data []byte) (api.Shape, api.Errno) { return footer.Look(data) }
 func Read(data []byte, budget int) (api.Table, int, api.Errno) { return table.Read(data, budget) }
 
 // Write writes a file (P8).
-func Write(t api.Table, rows int) ([]byte, api.Errno) { return nil, api.OK }
+func Write(t api.Table, rows int) ([]byte, api.Errno) { return table.Write(t, rows) }
 
 // Order tells the rows of a file in the order of a column (P9).
-func Order(data []byte, column, budget int) ([]int, api.Errno) { return nil, api.OK }
+func Order(data []byte, column, budget int) ([]int, api.Errno) {
+	return order.Of(data, column, budget)
+}

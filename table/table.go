@@ -1,4 +1,5 @@
-// Package table reads the table that a file holds, within a budget.
+// Package table reads the table that a file holds, within a budget, and writes
+// the file of a table.
 package table
 
 import (
